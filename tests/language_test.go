@@ -65,10 +65,100 @@ func checkFile(t *testing.T, name string, set *token.FileSet, file *ast.File) {
 		}
 	}
 	for _, d := range file.Decls {
-		if f, ok := d.(*ast.FuncDecl); ok {
-			if lines := set.Position(f.End()).Line - set.Position(f.Pos()).Line + 1; lines > longestFunction {
-				t.Error(name, "has a function of", lines, "lines:", f.Name.Name)
+		switch d := d.(type) {
+		case *ast.FuncDecl:
+			if lines := set.Position(d.End()).Line - set.Position(d.Pos()).Line + 1; lines > longestFunction {
+				t.Error(name, "has a function of", lines, "lines:", d.Name.Name)
 			}
+		case *ast.GenDecl:
+			for _, fault := range variableFaults(d) {
+				t.Error(name, "has at package level", fault)
+			}
+		}
+	}
+}
+
+// variableFaults tells what rules 3a and 3b of the language page do not let stand in this declaration.
+func variableFaults(d *ast.GenDecl) []string {
+	var faults []string
+	for _, s := range d.Specs {
+		v, ok := s.(*ast.ValueSpec)
+		if !ok || d.Tok != token.VAR {
+			continue
+		}
+		if len(v.Values) != len(v.Names) {
+			faults = append(faults, v.Names[0].Name+", a variable without a value of its own")
+		}
+		for i, x := range v.Values {
+			if !isErrorsNew(x) && !isPlainLiteral(x) {
+				faults = append(faults, v.Names[i].Name+", a variable that is no short table and no plain error")
+			}
+		}
+	}
+	return faults
+}
+
+func isErrorsNew(x ast.Expr) bool {
+	call, ok := x.(*ast.CallExpr)
+	if !ok || len(call.Args) != 1 {
+		return false
+	}
+	fun, ok := call.Fun.(*ast.SelectorExpr)
+	if !ok {
+		return false
+	}
+	pack, ok := fun.X.(*ast.Ident)
+	text, plain := call.Args[0].(*ast.BasicLit)
+	return ok && plain && pack.Name == "errors" && fun.Sel.Name == "New" && text.Kind == token.STRING
+}
+
+// isPlainLiteral asks for something with its elements written out: no call, function, map, float, address or lone text.
+func isPlainLiteral(x ast.Expr) bool {
+	if text, ok := x.(*ast.BasicLit); ok && text.Kind == token.STRING {
+		return false
+	}
+	plain, some := true, false
+	ast.Inspect(x, func(n ast.Node) bool {
+		switch n := n.(type) {
+		case *ast.CallExpr, *ast.FuncLit, *ast.FuncType, *ast.MapType:
+			plain = false
+		case *ast.UnaryExpr:
+			plain = plain && n.Op != token.AND
+		case *ast.BasicLit:
+			plain = plain && n.Kind != token.FLOAT && n.Kind != token.IMAG
+			some = true
+		}
+		return true
+	})
+	return plain && some
+}
+
+// The look itself: what it lets stand, and what it does not.
+func TestVariableFaults(t *testing.T) {
+	for text, good := range map[string]bool{
+		"const a = 5":                               true,
+		"type a struct{ b int }":                    true,
+		"var a = [2]int64{1, 2}":                    true,
+		"var a = []struct{ b string }{{\"c\"}}":     true,
+		"var a = errors.New(\"a\")":                 true,
+		"var a sync.Once":                           false,
+		"var a [256]uint32":                         false,
+		"var a = sync.Once{}":                       false,
+		"var a = \"text\"":                          false,
+		"var a = b()":                               false,
+		"var a = errors.Join(b)":                    false,
+		"var a = map[int]int{1: 2}":                 false,
+		"var a = func() {}":                         false,
+		"var a = &[1]int{1}":                        false,
+		"var a = 1.5":                               false,
+		"var (\n\ta = [1]int{1}\n\tb sync.Mutex\n)": false,
+	} {
+		file, err := parser.ParseFile(token.NewFileSet(), "", "package p\n"+text, 0)
+		if err != nil {
+			t.Fatal(err)
+		}
+		if faults := variableFaults(file.Decls[0].(*ast.GenDecl)); (len(faults) == 0) != good {
+			t.Error(text, faults)
 		}
 	}
 }
