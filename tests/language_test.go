@@ -98,6 +98,103 @@ func variableFaults(d *ast.GenDecl) []string {
 	return faults
 }
 
+// Package-level variables are read only: nobody assigns to one, takes its address, or a piece of it (which is one).
+func TestPackageVariablesAreOnlyRead(t *testing.T) {
+	set := token.NewFileSet()
+	var files []*ast.File
+	names := map[string]bool{}
+	for _, name := range programFiles(t) {
+		file, err := parser.ParseFile(set, name, nil, 0)
+		if err != nil {
+			t.Fatal(err)
+		}
+		files = append(files, file)
+		packageVariables(file, names)
+	}
+	for _, file := range files {
+		for _, at := range touched(file, names) {
+			t.Error(set.Position(at), "touches a variable of the package")
+		}
+	}
+}
+
+func packageVariables(file *ast.File, names map[string]bool) {
+	for _, d := range file.Decls {
+		if d, ok := d.(*ast.GenDecl); ok && d.Tok == token.VAR {
+			for _, s := range d.Specs {
+				for _, n := range s.(*ast.ValueSpec).Names {
+					names[n.Name] = true
+				}
+			}
+		}
+	}
+}
+
+// touched are the places where one of these names is assigned to, or its address is taken.
+func touched(file *ast.File, names map[string]bool) []token.Pos {
+	var found []token.Pos
+	note := func(x ast.Expr) {
+		for {
+			switch y := x.(type) {
+			case *ast.IndexExpr:
+				x = y.X
+			case *ast.SelectorExpr:
+				x = y.X
+			case *ast.ParenExpr:
+				x = y.X
+			case *ast.Ident:
+				if names[y.Name] {
+					found = append(found, y.Pos())
+				}
+				return
+			default:
+				return
+			}
+		}
+	}
+	ast.Inspect(file, func(n ast.Node) bool {
+		switch n := n.(type) {
+		case *ast.AssignStmt:
+			for _, x := range n.Lhs {
+				note(x)
+			}
+		case *ast.IncDecStmt:
+			note(n.X)
+		case *ast.UnaryExpr:
+			if n.Op == token.AND {
+				note(n.X)
+			}
+		case *ast.SliceExpr:
+			note(n.X)
+		}
+		return true
+	})
+	return found
+}
+
+func TestTouched(t *testing.T) {
+	for text, want := range map[string]int{
+		"b := v; _ = b":        0,
+		"for range v { }":      0,
+		"_ = v[0] == w":        0,
+		"_ = v[:]":             1,
+		"v = w":                1,
+		"v[0], b = 1, 2":       1,
+		"_ = &v[1]":            1,
+		"v[0]++":               1,
+		"_ = v[0].w[:2]":       1,
+		"w.v = 1; _ = w[1:].v": 0,
+	} {
+		file, err := parser.ParseFile(token.NewFileSet(), "", "package p\nfunc f() { "+text+" }", 0)
+		if err != nil {
+			t.Fatal(err)
+		}
+		if got := len(touched(file, map[string]bool{"v": true})); got != want {
+			t.Error(text, got)
+		}
+	}
+}
+
 func isErrorsNew(x ast.Expr) bool {
 	call, ok := x.(*ast.CallExpr)
 	if !ok || len(call.Args) != 1 {
