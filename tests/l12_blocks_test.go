@@ -190,23 +190,36 @@ func TestBytesBehindADirectory(t *testing.T) {
 	}
 }
 
-// The last inode and the last block: one more is refused, and whatever frees something makes room.
-func TestLastInodeAndBlock(t *testing.T) {
-	d := newDisk(60, 40, 4)
-	checkExpected(t, "inodes", d, nil, expected{creating("/a"), 0}, expected{mkdir("/b"), 0}, expected{pointing("/c", "/a"), 0}, expected{creating("/d"), impl.ErrNoSpace}, expected{mkdir("/d"), impl.ErrNoSpace}, expected{pointing("/d", "/a"), impl.ErrNoSpace}, expected{spaceLeft(), 0}, expected{linking("/a", "/d"), 0}, expected{writing("/a", 0, letters(300, 1)), 0},
-		expected{renaming("/d", "/c"), 0}, expected{mkdir("/e"), 0}, expected{creating("/f"), impl.ErrNoSpace}, expected{rmdir("/b"), 0}, expected{creating("/f"), 0}, expected{opening("/f"), 0}, expected{unlinking("/f"), 0}, expected{creating("/g"), impl.ErrNoSpace}, expected{closing(1), 0}, expected{creating("/g"), 0}, expected{spaceLeft(), 0})
-	// {60 40 8} has 12 blocks: the root's, 8 of f, 1 of d, 1 of g; one is left.
-	var calls []impl.Call
-	calls = append(calls, creating("/f"), mkdir("/d"), creating("/g"), creating("/d/x"), writing("/g", 0, "g"))
+// lastInode takes and frees the last of four inodes.
+func lastInode() []expected {
+	return []expected{
+		{creating("/a"), 0}, {mkdir("/b"), 0}, {pointing("/c", "/a"), 0}, {creating("/d"), impl.ErrNoSpace}, {mkdir("/d"), impl.ErrNoSpace}, {pointing("/d", "/a"), impl.ErrNoSpace}, {spaceLeft(), 0}, {linking("/a", "/d"), 0}, {writing("/a", 0, letters(300, 1)), 0},
+		{renaming("/d", "/c"), 0}, {mkdir("/e"), 0}, {creating("/f"), impl.ErrNoSpace}, {rmdir("/b"), 0}, {creating("/f"), 0}, {opening("/f"), 0}, {unlinking("/f"), 0}, {creating("/g"), impl.ErrNoSpace}, {closing(1), 0}, {creating("/g"), 0}, {spaceLeft(), 0},
+	}
+}
+
+// lastBlockTree leaves one of the 12 blocks of {60 40 8}: the root has one, f 8, d 1, g 1.
+func lastBlockTree() []impl.Call {
+	calls := []impl.Call{creating("/f"), mkdir("/d"), creating("/g"), creating("/d/x"), writing("/g", 0, "g")}
 	for i := range int64(8) {
 		calls = append(calls, writing("/f", 64*i, letters(64, byte(i))))
 	}
-	one := grown(t, newDisk(60, 40, 8), calls...)
-	none := grown(t, one, writing("/g", 64, "g"))
-	for _, c := range []struct {
-		call      impl.Call
-		one, none int64
-	}{
+	return calls
+}
+
+// takeLastBlock leaves none.
+func takeLastBlock() impl.Call {
+	return writing("/g", 64, "g")
+}
+
+// lastBlockRow is a call, and its code when one block is left, and when none is.
+type lastBlockRow struct {
+	call      impl.Call
+	one, none int64
+}
+
+func lastBlockRows() []lastBlockRow {
+	return []lastBlockRow{
 		{writing("/f", 512, "x"), impl.ErrNoSpace, impl.ErrNoSpace}, // two: a pointer block too
 		{writing("/f", 511, "x"), 0, 0},
 		{appending("/f", "x"), impl.ErrNoSpace, impl.ErrNoSpace},
@@ -226,15 +239,29 @@ func TestLastInodeAndBlock(t *testing.T) {
 		{renaming("/d/x", "/y"), 0, 0},
 		{renaming("/g", "/d/y"), 0, 0},
 		{renaming("/g", "/f"), impl.ErrCredit, impl.ErrCredit},
-	} {
+	}
+}
+
+// fullAndOpen are calls when no block is left, and g has no name, but handle 1.
+func fullAndOpen() []expected {
+	return []expected{
+		{pwriting(1, 128, "x"), impl.ErrNoSpace}, {pwriting(1, 100, "x"), 0}, {ftruncating(1, 2000), 0}, {ftruncating(1, 64), 0}, {pwriting(1, 128, "x"), 0}, {pwriting(1, 64, "x"), impl.ErrNoSpace}, {closing(1), 0}, {spaceLeft(), 0},
+	}
+}
+
+// The last inode and the last block: one more is refused, and whatever frees something makes room.
+func TestLastInodeAndBlock(t *testing.T) {
+	checkExpected(t, "inodes", newDisk(60, 40, 4), nil, lastInode()...)
+	one := grown(t, newDisk(60, 40, 8), lastBlockTree()...)
+	none := grown(t, one, takeLastBlock())
+	for _, c := range lastBlockRows() {
 		checkExpected(t, "one block is left", one, nil, expected{c.call, c.one}, expected{spaceLeft(), 0})
 		checkExpected(t, "none is left", none, nil, expected{c.call, c.none}, expected{spaceLeft(), 0})
 	}
 	if space := impl.Run(none, []impl.Call{spaceLeft()}, -1).Answers[0].Stat; space.Blocks != 0 || space.Size != 3 {
 		t.Error(space)
 	}
-	// What has no name, but a handle, has its blocks still.
-	checkExpected(t, "open", none, []impl.Call{opening("/g"), unlinking("/g")}, expected{pwriting(1, 128, "x"), impl.ErrNoSpace}, expected{pwriting(1, 100, "x"), 0}, expected{ftruncating(1, 2000), 0}, expected{ftruncating(1, 64), 0}, expected{pwriting(1, 128, "x"), 0}, expected{pwriting(1, 64, "x"), impl.ErrNoSpace}, expected{closing(1), 0}, expected{spaceLeft(), 0})
+	checkExpected(t, "open", none, []impl.Call{opening("/g"), unlinking("/g")}, fullAndOpen()...)
 }
 
 // A move frees in the same step what it takes: a directory's last block, for another's first; not if a pointer block is wanted too.

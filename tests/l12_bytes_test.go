@@ -115,12 +115,16 @@ func codeOfBytes(c impl.Call, size int64) int64 {
 	return rangeCode(c.Offset, len(c.Data))
 }
 
-// Each change of a file's bytes, by its path and by a handle: what is read, how large it is, which blocks it has; and again when it was
-// cut to half of that and made as long as it may be.
-func TestBytesOfFiles(t *testing.T) {
-	t.Parallel()
-	d := grown(t, newDisk(300, 200, 4), creating("/f"))
-	n := 0
+// byteCase is a change of a file: what is to be answered by the last seven of its calls.
+type byteCase struct {
+	name  string
+	calls []impl.Call
+	want  []impl.Answer
+}
+
+// byteCases are all changes of all files, by the path and by a handle: what is read then, how large the file is, which blocks it has; and
+// again when it was cut to half of that and made as long as it may be.
+func byteCases(use func(c byteCase)) {
 	for name, base := range fileBases() {
 		for _, c := range changesOfBytes() {
 			var s sketch
@@ -131,59 +135,77 @@ func TestBytesOfFiles(t *testing.T) {
 			if code == 0 {
 				s.do(c)
 			}
-			first := s
-			first.data = slices.Clone(s.data)
-			half := truncating("/f", int64(len(s.data)/2))
-			longest := truncating("/f", 2560)
+			half, longest := truncating("/f", int64(len(s.data)/2)), truncating("/f", 2560)
+			asks := []impl.Call{c, reading("/f", 0, 2560), statOf("/f"), half, longest, reading("/f", 0, 9999), statOf("/f")}
+			want := []impl.Answer{{Code: code}, {Data: string(s.data)}, {Stat: s.stat()}, {}, {}}
 			s.do(half)
 			s.do(longest)
-			asks := []impl.Call{c, reading("/f", 0, 2560), statOf("/f"), half, longest, reading("/f", 0, 9999), statOf("/f")}
-			for _, through := range []bool{false, true} {
-				calls := append(slices.Clone(base), opening("/f"))
-				for _, ask := range asks {
-					if through {
-						ask = byHandle(ask)
-					}
-					calls = append(calls, ask)
-				}
-				a := impl.Run(d, calls, -1).Answers[len(base)+1:]
-				if a[0].Code != code || a[1].Data != string(first.data) || a[2].Stat != first.stat() || a[5].Data != string(s.data) || a[6].Stat != s.stat() {
-					t.Errorf("%s, %d %d %d %d, by handle %v: code %d, not %d; %+v, not %+v; %+v, not %+v", name, c.Kind, c.Offset, c.Size, len(c.Data), through, a[0].Code, code, a[2].Stat, first.stat(), a[6].Stat, s.stat())
-				}
-				if n++; n%41 == 0 {
-					checkSystem(t, name, d, append(calls, checkpointing()))
-				}
+			want = append(want, impl.Answer{Data: string(s.data)}, impl.Answer{Stat: s.stat()})
+			calls := append(slices.Clone(base), opening("/f"))
+			use(byteCase{name, append(slices.Clip(calls), asks...), want})
+			for i := range asks {
+				asks[i] = byHandle(asks[i])
 			}
+			use(byteCase{name + ", by handle", append(slices.Clip(calls), asks...), want})
 		}
 	}
 }
 
-// Every piece of a file that is read.
-func TestReadPieces(t *testing.T) {
-	data := letters(64, 1) + strings.Repeat("\x00", 128) + letters(500, 2) + strings.Repeat("\x00", 100)
-	base := []impl.Call{writing("/f", 0, letters(64, 1)), writing("/f", 192, letters(500, 2)), truncating("/f", 792), opening("/f")}
-	d := grown(t, newDisk(100, 80, 4), creating("/f"))
-	var calls []impl.Call
-	var want []string
-	for _, at := range append(lengthEdges(), 191, 192, 193, 691, 692, 791, 792, 793) {
-		for _, n := range append(lengthEdges(), 300, 792, 793) {
-			piece := ""
-			if at >= 0 && n >= 0 && at < 792 {
-				piece = data[at:min(792, at+min(n, 792))]
-			}
-			calls = append(calls, reading("/f", at, n))
-			want = append(want, piece)
+// check holds the answers to the calls, those that there are, against what they are to be.
+func (c byteCase) check(t *testing.T, answers []impl.Answer) {
+	t.Helper()
+	at := len(answers) - len(c.want)
+	for i := range c.want {
+		if value(answers[at+i]) != value(c.want[i]) {
+			call := c.calls[len(c.calls)-len(c.want)]
+			t.Errorf("%s, %d %d %d %d: answer %d is %+v, not %+v", c.name, call.Kind, call.Offset, call.Size, len(call.Data), i, answers[at+i], c.want[i])
 		}
 	}
-	for i, c := range calls {
-		r := impl.Run(d, append(slices.Clip(base), c, byHandle(c)), -1)
-		code := int64(0)
-		if c.Offset < 0 || c.Size < 0 {
-			code = impl.ErrRange
+}
+
+// Each change of a file's bytes.
+func TestBytesOfFiles(t *testing.T) {
+	t.Parallel()
+	d := grown(t, newDisk(300, 200, 4), creating("/f"))
+	n := 0
+	byteCases(func(c byteCase) {
+		c.check(t, impl.Run(d, c.calls, -1).Answers)
+		if n++; n%41 == 0 {
+			checkSystem(t, c.name, d, append(slices.Clip(c.calls), checkpointing()))
 		}
-		for _, a := range r.Answers[len(base):] {
-			if a.Code != code || a.Data != want[i] {
-				t.Errorf("%d bytes from %d on: code %d, %d bytes, not %d", c.Size, c.Offset, a.Code, len(a.Data), len(want[i]))
+	})
+	if n < 3000 {
+		t.Error(n)
+	}
+}
+
+// readPieces are reads at all the edges of a file that the calls make, and what they are to answer.
+func readPieces() (base, reads []impl.Call, want []impl.Answer) {
+	data := letters(64, 1) + strings.Repeat("\x00", 128) + letters(500, 2) + strings.Repeat("\x00", 100)
+	base = []impl.Call{writing("/f", 0, letters(64, 1)), writing("/f", 192, letters(500, 2)), truncating("/f", 792), opening("/f")}
+	for _, at := range append(lengthEdges(), 191, 192, 193, 691, 692, 791, 792, 793) {
+		for _, n := range append(lengthEdges(), 300, 792, 793) {
+			var a impl.Answer
+			switch {
+			case at < 0 || n < 0:
+				a.Code = impl.ErrRange
+			case at < 792:
+				a.Data = data[at:min(792, at+min(n, 792))]
+			}
+			reads, want = append(reads, reading("/f", at, n)), append(want, a)
+		}
+	}
+	return base, reads, want
+}
+
+// Every piece of a file that is read.
+func TestReadPieces(t *testing.T) {
+	d := grown(t, newDisk(100, 80, 4), creating("/f"))
+	base, reads, want := readPieces()
+	for i, c := range reads {
+		for _, a := range impl.Run(d, append(slices.Clip(base), c, byHandle(c)), -1).Answers[len(base):] {
+			if value(a) != value(want[i]) {
+				t.Errorf("%d bytes from %d on: code %d, %d bytes, not %d, %d", c.Size, c.Offset, a.Code, len(a.Data), want[i].Code, len(want[i].Data))
 			}
 		}
 	}

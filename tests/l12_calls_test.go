@@ -50,6 +50,11 @@ func placeItems() map[int64]item {
 
 // placeDisk is such a tree with so many free blocks and inodes.
 func placeDisk(log, blocks, inodes int64) impl.Disk {
+	return laid(placeGeometry(log, blocks, inodes), placeItems()).disk
+}
+
+// placeGeometry has so much more than that tree takes.
+func placeGeometry(log, blocks, inodes int64) impl.Geometry {
 	items := placeItems()
 	wide := laid(impl.Geometry{Blocks: 1000, Log: log, Inodes: 60}, items)
 	used := wide.p.DataBlocks - int64(len(wide.free))
@@ -59,7 +64,7 @@ func placeDisk(log, blocks, inodes int64) impl.Disk {
 	for {
 		p, _ = plainPlaces(g)
 		if p.DataBlocks == used+blocks {
-			return laid(g, items).disk
+			return g
 		}
 		g.Blocks += used + blocks - p.DataBlocks
 	}
@@ -240,15 +245,16 @@ func TestCallsWithAndWithoutRoom(t *testing.T) {
 	}
 }
 
-// Calls that look: what they tell of files, directories and links, by paths through all sorts of links.
-func TestCallsThatLook(t *testing.T) {
-	t.Parallel()
-	d := placeDisk(128, 40, 4)
+// lookRow is a call that looks, and what it is to answer.
+type lookRow struct {
+	call impl.Call
+	want impl.Answer
+}
+
+// lookRows are about files, directories and links of that tree with room, by paths through all sorts of links.
+func lookRows() []lookRow {
 	file, g := placeItems()[3].data, placeItems()[48].data
-	rows := []struct {
-		call impl.Call
-		want impl.Answer
-	}{
+	return []lookRow{
 		{statOf("/"), impl.Answer{Stat: impl.Stat{Kind: 2, Links: 1, Size: 13 * 16, Blocks: 4}}},
 		{lstatOf("/"), impl.Answer{Stat: impl.Stat{Kind: 2, Links: 1, Size: 13 * 16, Blocks: 4}}},
 		{statOf("/r"), impl.Answer{Stat: impl.Stat{Kind: 2, Links: 1, Size: 13 * 16, Blocks: 4}}},
@@ -288,13 +294,18 @@ func TestCallsThatLook(t *testing.T) {
 		{reading("/f", 3, 0), impl.Answer{}},
 		{reading("/s/g", 1, 5), impl.Answer{Data: g[1:6]}},
 		{spaceLeft(), impl.Answer{Stat: impl.Stat{Size: 4, Blocks: 40}}},
-		{logNow(), impl.Answer{State: impl.TxnState{Seq: 1, Head: 1}}},
 		{opening("/s/g"), impl.Answer{Handle: 1}},
 		{syncing(), impl.Answer{}},
 		{checkpointing(), impl.Answer{}},
 	}
+}
+
+// Calls that look change nothing, and have no credits.
+func TestCallsThatLook(t *testing.T) {
+	t.Parallel()
+	d := placeDisk(128, 40, 4)
 	var calls []impl.Call
-	for _, row := range rows {
+	for _, row := range append(lookRows(), lookRow{logNow(), impl.Answer{State: impl.TxnState{Seq: 1, Head: 1}}}) {
 		r := impl.Run(d, []impl.Call{row.call}, -1)
 		if len(r.Answers) != 1 || value(r.Answers[0]) != value(row.want) || r.Ops != 0 {
 			t.Errorf("%+v answers %+v, not %+v", row.call, r.Answers, row.want)
@@ -307,12 +318,12 @@ func TestCallsThatLook(t *testing.T) {
 	checkSystem(t, "all in a row", d, calls)
 }
 
-// Fields that a call does not use play no part, and no answer has more than its call gives it.
-func TestCallsUseTheirFieldsAlone(t *testing.T) {
-	d := placeDisk(128, 40, 4)
+// fieldPairs are calls of all kinds with all their fields, and with those alone that they use. Handle 1 is to be open.
+func fieldPairs() map[int64][2]impl.Call {
 	used := map[int64]string{
 		1: "P", 2: "P", 3: "P", 4: "P", 5: "PT", 6: "POD", 7: "PS", 8: "PD", 9: "PT", 10: "PT", 11: "HOD", 12: "HS", 13: "H", 14: "P", 15: "HOS", 16: "H", 17: "POS", 18: "P", 19: "P", 20: "P", 21: "P",
 	}
+	pairs := map[int64][2]impl.Call{}
 	for kind := int64(-1); kind <= 27; kind++ {
 		full := impl.Call{Kind: kind, Path: "/s/g", To: "/s/x", Handle: 1, Offset: 3, Size: 7, Data: "data"}
 		switch kind {
@@ -333,12 +344,21 @@ func TestCallsUseTheirFieldsAlone(t *testing.T) {
 				clear()
 			}
 		}
-		a := impl.Run(d, []impl.Call{opening("/f"), full, syncing(), listOf("/a")}, -1)
-		b := impl.Run(d, []impl.Call{opening("/f"), bare, syncing(), listOf("/a")}, -1)
+		pairs[kind] = [2]impl.Call{full, bare}
+	}
+	return pairs
+}
+
+// Fields that a call does not use play no part, and no answer has more than its call gives it.
+func TestCallsUseTheirFieldsAlone(t *testing.T) {
+	d := placeDisk(128, 40, 4)
+	for kind, pair := range fieldPairs() {
+		a := impl.Run(d, []impl.Call{opening("/f"), pair[0], syncing(), listOf("/a")}, -1)
+		b := impl.Run(d, []impl.Call{opening("/f"), pair[1], syncing(), listOf("/a")}, -1)
 		if value(a) != value(b) || (a.Answers[1].Code != 0) != (kind < 1 || kind > 25) {
 			t.Errorf("kind %d: %+v and %+v", kind, a.Answers, b.Answers)
 		}
-		if impl.Credits(d, full) != impl.Credits(d, bare) {
+		if impl.Credits(d, pair[0]) != impl.Credits(d, pair[1]) {
 			t.Error("kind", kind, "has other credits")
 		}
 	}

@@ -206,6 +206,11 @@ func (w *scriptDraw) next() impl.Call {
 // calls are so many for this disk.
 func (w *scriptDraw) calls(d impl.Disk, n int) []impl.Call {
 	w.system, _ = plainSystemOf(d, nil)
+	return w.callsOn(n)
+}
+
+// callsOn are so many for the system as it is.
+func (w *scriptDraw) callsOn(n int) []impl.Call {
 	var out []impl.Call
 	for range n {
 		w.look()

@@ -9,10 +9,9 @@ import (
 	"loop.example/s01525/impl"
 )
 
-func TestHandleNumbers(t *testing.T) {
-	d := grown(t, newDisk(60, 40, 8), creating("/f"), creating("/g"), mkdir("/a"), pointing("/l", "/g"))
-	var calls []impl.Call
-	var want []int64
+// handleNumbers opens and closes handles of two files and a link, and tells the number that each call is to answer. Three that are refused
+// come behind the first eight, and one behind the next eight.
+func handleNumbers() (calls []impl.Call, want []int64) {
 	open := func(path string, handle int64) {
 		calls, want = append(calls, opening(path)), append(want, handle)
 	}
@@ -22,7 +21,9 @@ func TestHandleNumbers(t *testing.T) {
 	for n := int64(1); n <= 8; n++ {
 		open([]string{"/f", "/g", "/l"}[n%3], n)
 	}
-	calls, want = append(calls, opening("/f"), opening("/a"), opening("/no")), append(want, 0, 0, 0)
+	open("/f", 0)
+	open("/a", 0)
+	open("/no", 0)
 	shut(5)
 	shut(2)
 	shut(7)
@@ -31,13 +32,45 @@ func TestHandleNumbers(t *testing.T) {
 	shut(1)
 	open("/g", 1)
 	open("/f", 7)
-	calls, want = append(calls, opening("/g")), append(want, 0)
+	open("/g", 0)
 	for n := int64(8); n >= 1; n-- {
 		shut(n)
 	}
 	open("/f", 1)
 	shut(1)
 	open("/f", 1)
+	return calls, want
+}
+
+// handleTree is what these calls need.
+func handleTree() []impl.Call {
+	return []impl.Call{creating("/f"), creating("/g"), mkdir("/a"), pointing("/l", "/g")}
+}
+
+// noHandle are calls of a handle that is none.
+func noHandle(handle int64) []expected {
+	return []expected{
+		{pwriting(handle, 0, "x"), impl.ErrHandle}, {pwriting(handle, -1, ""), impl.ErrHandle}, {ftruncating(handle, 2561), impl.ErrHandle}, {preading(handle, -1, -1), impl.ErrHandle}, {fstatOf(handle), impl.ErrHandle}, {closing(handle), impl.ErrHandle},
+	}
+}
+
+// behindHandle are the errors behind that of the handle, if handle 1 is open, and there are 12 blocks, 10 of which a call may change.
+func behindHandle() []expected {
+	return []expected{
+		{pwriting(1, -1, letters(2561, 1)), impl.ErrRange}, {pwriting(1, 2561, ""), impl.ErrTooBig}, {pwriting(1, math.MaxInt64, "x"), impl.ErrTooBig}, {pwriting(1, 0, letters(2560, 1)), impl.ErrNoSpace},
+		{pwriting(1, 0, letters(640, 1)), impl.ErrNoSpace}, {pwriting(1, 0, letters(576, 1)), impl.ErrCredit}, {pwriting(1, 0, letters(512, 1)), 0}, {ftruncating(1, -1), impl.ErrRange}, {ftruncating(1, 2561), impl.ErrTooBig}, {preading(1, 0, -1), impl.ErrRange},
+		{preading(1, math.MinInt64, 0), impl.ErrRange}, {fstatOf(1), 0}, {closing(1), 0}, {closing(1), impl.ErrHandle},
+	}
+}
+
+// handlesAhead are ways to have two handles open.
+func handlesAhead() [][]impl.Call {
+	return [][]impl.Call{nil, {opening("/f"), opening("/f")}, {opening("/f"), opening("/f"), opening("/f"), closing(3)}}
+}
+
+func TestHandleNumbers(t *testing.T) {
+	d := grown(t, newDisk(60, 40, 8), handleTree()...)
+	calls, want := handleNumbers()
 	s := checkSystem(t, "numbers", d, calls)
 	for i, a := range s.told {
 		if a.Handle != want[i] {
@@ -50,66 +83,90 @@ func TestHandleNumbers(t *testing.T) {
 	}
 	// A handle that is none, whichever of them are open.
 	for _, handle := range []int64{0, -1, 3, 9, 10, math.MaxInt64, math.MinInt64} {
-		for _, ahead := range [][]impl.Call{nil, {opening("/f"), opening("/f")}, {opening("/f"), opening("/f"), opening("/f"), closing(3)}} {
-			checkExpected(t, fmt.Sprint("handle ", handle), d, ahead, expected{pwriting(handle, 0, "x"), impl.ErrHandle}, expected{pwriting(handle, -1, ""), impl.ErrHandle}, expected{ftruncating(handle, 2561), impl.ErrHandle},
-				expected{preading(handle, -1, -1), impl.ErrHandle}, expected{fstatOf(handle), impl.ErrHandle}, expected{closing(handle), impl.ErrHandle})
+		for _, ahead := range handlesAhead() {
+			checkExpected(t, fmt.Sprint("handle ", handle), d, ahead, noHandle(handle)...)
 		}
 	}
-	// Errors behind that of the handle.
-	checkExpected(t, "in order", d, []impl.Call{opening("/f")}, expected{pwriting(1, -1, letters(2561, 1)), impl.ErrRange}, expected{pwriting(1, 2561, ""), impl.ErrTooBig}, expected{pwriting(1, math.MaxInt64, "x"), impl.ErrTooBig}, expected{pwriting(1, 0, letters(2560, 1)), impl.ErrNoSpace},
-		expected{pwriting(1, 0, letters(640, 1)), impl.ErrNoSpace}, expected{pwriting(1, 0, letters(576, 1)), impl.ErrCredit}, expected{pwriting(1, 0, letters(512, 1)), 0}, expected{ftruncating(1, -1), impl.ErrRange}, expected{ftruncating(1, 2561), impl.ErrTooBig}, expected{preading(1, 0, -1), impl.ErrRange},
-		expected{preading(1, math.MinInt64, 0), impl.ErrRange}, expected{fstatOf(1), 0}, expected{closing(1), 0}, expected{closing(1), impl.ErrHandle})
+	checkExpected(t, "in order", d, []impl.Call{opening("/f")}, behindHandle()...)
 }
 
-// A file that is open is read and written, whatever becomes of its names (promise 25).
-func TestHandlesOutliveNames(t *testing.T) {
-	base := []impl.Call{creating("/f"), writing("/f", 0, letters(100, 1)), creating("/g"), writing("/g", 0, "gg"), mkdir("/a"), creating("/a/h")}
-	d := grown(t, newDisk(80, 48, 8), base...)
-	free := impl.Run(d, []impl.Call{spaceLeft()}, -1).Answers[0].Stat
-	for name, lose := range map[string][]impl.Call{
+// outliveTree has the file that loses its names.
+func outliveTree() []impl.Call {
+	return []impl.Call{creating("/f"), writing("/f", 0, letters(100, 1)), creating("/g"), writing("/g", 0, "gg"), mkdir("/a"), creating("/a/h")}
+}
+
+// losses are ways of a file to lose its last name.
+func losses() map[string][]impl.Call {
+	return map[string][]impl.Call{
 		"unlinked":           {unlinking("/f")},
 		"renamed over":       {renaming("/g", "/f")},
 		"renamed over away":  {renaming("/a/h", "/f"), unlinking("/f")},
 		"moved and unlinked": {renaming("/f", "/a/x"), unlinking("/a/x")},
 		"two names":          {linking("/f", "/a/x"), unlinking("/f"), unlinking("/a/x")},
 		"the name is anew":   {unlinking("/f"), creating("/f"), writing("/f", 0, "other"), unlinking("/f")},
-	} {
+	}
+}
+
+// useNameless reads and writes through two handles, and closes them.
+func useNameless() []impl.Call {
+	return []impl.Call{
+		lstatOf("/f"), fstatOf(1), preading(1, 90, 99), pwriting(2, 100, "more"), ftruncating(1, 103), preading(2, 98, 99), fstatOf(2), spaceLeft(), closing(2), fstatOf(2), preading(1, 0, 2), spaceLeft(), pwriting(1, 500, "x"), closing(1), preading(1, 0, 1), spaceLeft(), creating("/n"), checkpointing(),
+	}
+}
+
+// checkNameless holds the answers to these against what they are to be; free is the space ahead of all.
+func checkNameless(t *testing.T, name string, a []impl.Answer, free impl.Stat) {
+	t.Helper()
+	if a[1].Stat != (impl.Stat{Kind: 1, Size: 100, Blocks: 2}) || a[2].Data != letters(100, 1)[90:] || a[5].Data != letters(100, 1)[98:]+"mor" || a[6].Stat != (impl.Stat{Kind: 1, Size: 103, Blocks: 2}) || a[10].Data != letters(2, 1) {
+		t.Errorf("%s: %+v", name, a[:11])
+	}
+	if a[7].Stat != a[11].Stat || a[9].Code != impl.ErrHandle || a[14].Code != impl.ErrHandle || a[3].Code+a[4].Code+a[8].Code+a[12].Code+a[13].Code+a[16].Code != 0 {
+		t.Errorf("%s: %+v", name, a)
+	}
+	// With the last handle its two blocks (and the third that it got) and its inode are free.
+	if a[15].Stat.Size != a[11].Stat.Size+1 || a[15].Stat.Blocks != a[11].Stat.Blocks+2 || a[15].Stat.Size < free.Size+1 {
+		t.Errorf("%s: %+v, then %+v", name, a[11].Stat, a[15].Stat)
+	}
+}
+
+// A file that is open is read and written, whatever becomes of its names (promise 25).
+func TestHandlesOutliveNames(t *testing.T) {
+	d := grown(t, newDisk(80, 48, 8), outliveTree()...)
+	free := impl.Run(d, []impl.Call{spaceLeft()}, -1).Answers[0].Stat
+	for name, lose := range losses() {
 		calls := append([]impl.Call{opening("/f"), opening("/f")}, lose...)
-		at := len(calls)
-		calls = append(calls, lstatOf("/f"), fstatOf(1), preading(1, 90, 99), pwriting(2, 100, "more"), ftruncating(1, 103), preading(2, 98, 99), fstatOf(2), spaceLeft(), closing(2), fstatOf(2), preading(1, 0, 2), spaceLeft(), pwriting(1, 500, "x"), closing(1), preading(1, 0, 1), spaceLeft(), creating("/n"), checkpointing())
-		s := checkSystemStopped(t, name, d, calls)
-		a := s.told[at:]
-		if a[1].Stat != (impl.Stat{Kind: 1, Size: 100, Blocks: 2}) || a[2].Data != letters(100, 1)[90:] || a[5].Data != letters(100, 1)[98:]+"mor" || a[6].Stat != (impl.Stat{Kind: 1, Size: 103, Blocks: 2}) || a[10].Data != letters(2, 1) {
-			t.Errorf("%s: %+v", name, a[:11])
-		}
-		if a[7].Stat != a[11].Stat || a[9].Code != impl.ErrHandle || a[14].Code != impl.ErrHandle || a[3].Code+a[4].Code+a[8].Code+a[12].Code+a[13].Code+a[16].Code != 0 {
-			t.Errorf("%s: %+v", name, a)
-		}
-		// With the last handle its two blocks (and the third that it got) and its inode are free.
-		if a[15].Stat.Size != a[11].Stat.Size+1 || a[15].Stat.Blocks != a[11].Stat.Blocks+2 || a[15].Stat.Size < free.Size+1 {
-			t.Errorf("%s: %+v, then %+v", name, a[11].Stat, a[15].Stat)
-		}
+		s := checkSystemStopped(t, name, d, append(calls, useNameless()...))
+		checkNameless(t, name, s.told[len(calls):], free)
+	}
+}
+
+// keptInodes has files whose inodes are in use as long as a handle is open.
+func keptInodes() []impl.Call {
+	return []impl.Call{
+		creating("/a"), writing("/a", 0, "aaa"), opening("/a"), unlinking("/a"), creating("/b"), creating("/c"), creating("/d"), preading(1, 0, 9), writing("/b", 0, "bbb"), opening("/b"), closing(1), creating("/d"), opening("/d"), fstatOf(1), fstatOf(2), closing(2), statOf("/b"), reading("/b", 0, 9), linking("/b", "/e"), opening("/e"), unlinking("/b"), closing(2), reading("/e", 0, 9),
+	}
+}
+
+// checkKept holds the answers to these, and the numbers of the inodes behind them, against what they are to be.
+func checkKept(t *testing.T, a []impl.Answer, nodes []impl.Node) {
+	t.Helper()
+	if a[6].Code != impl.ErrNoSpace || a[7].Data != "aaa" || a[11].Code != 0 || a[12].Handle != 1 || a[13].Stat != (impl.Stat{Kind: 1, Links: 1}) || a[14].Stat.Size != 3 || a[16].Stat.Links != 1 || a[17].Data != "bbb" || a[22].Data != "bbb" {
+		t.Errorf("%+v", a)
+	}
+	var inodes []int64
+	for _, n := range nodes {
+		inodes = append(inodes, n.Inode)
+	}
+	if !slices.Equal(inodes, []int64{1, 4, 2, 3}) {
+		t.Error(inodes) // the root, c, d (which has a's), e
 	}
 }
 
 // What has a name is not freed by closing, what has a handle not by unlinking; the inode's number is not given to another meanwhile.
 func TestHandlesKeepTheirInodes(t *testing.T) {
 	d := newDisk(80, 48, 4)
-	calls := []impl.Call{
-		creating("/a"), writing("/a", 0, "aaa"), opening("/a"), unlinking("/a"), creating("/b"), creating("/c"), creating("/d"), preading(1, 0, 9), writing("/b", 0, "bbb"), opening("/b"), closing(1), creating("/d"), opening("/d"), fstatOf(1), fstatOf(2), closing(2), statOf("/b"), reading("/b", 0, 9), linking("/b", "/e"), opening("/e"), unlinking("/b"), closing(2), reading("/e", 0, 9),
-	}
-	s := checkSystem(t, "numbers of inodes", d, calls)
-	a := s.told
-	if a[6].Code != impl.ErrNoSpace || a[7].Data != "aaa" || a[11].Code != 0 || a[12].Handle != 1 || a[13].Stat != (impl.Stat{Kind: 1, Links: 1}) || a[14].Stat.Size != 3 || a[16].Stat.Links != 1 || a[17].Data != "bbb" || a[22].Data != "bbb" {
-		t.Errorf("%+v", a)
-	}
-	var inodes []int64
-	for _, n := range impl.Tree(d, calls).Nodes {
-		inodes = append(inodes, n.Inode)
-	}
-	if !slices.Equal(inodes, []int64{1, 4, 2, 3}) {
-		t.Error(inodes) // the root, c, d (which has a's), e
-	}
+	s := checkSystem(t, "numbers of inodes", d, keptInodes())
+	checkKept(t, s.told, impl.Tree(d, keptInodes()).Nodes)
 }
 
 // Behind a crash no handle is open: a mount frees what has no name, by rising number, in steps like those of calls.

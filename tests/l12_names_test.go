@@ -70,15 +70,16 @@ func TestEntriesInOrder(t *testing.T) {
 	}
 }
 
-func TestRename(t *testing.T) {
-	t.Parallel()
-	d := placeDisk(128, 40, 4)
+// renameRow has calls that succeed, and what is told of the tree behind them.
+type renameRow struct {
+	calls []impl.Call
+	ask   impl.Call
+	want  impl.Answer
+}
+
+func renameRows() map[string]renameRow {
 	file := placeItems()[3].data
-	for name, c := range map[string]struct {
-		calls []impl.Call
-		ask   impl.Call
-		want  impl.Answer
-	}{
+	return map[string]renameRow{
 		"a file, over another":         {[]impl.Call{renaming("/f", "/a/g")}, reading("/s/g", 0, 99), impl.Answer{Data: file}},
 		"the old name is gone":         {[]impl.Call{renaming("/f", "/a/g")}, lstatOf("/f"), impl.Answer{Code: impl.ErrNoEntry}},
 		"what was there is freed":      {[]impl.Call{renaming("/f", "/a/g")}, spaceLeft(), impl.Answer{Stat: impl.Stat{Size: 5, Blocks: 42}}},
@@ -105,7 +106,13 @@ func TestRename(t *testing.T) {
 		"to the depth's limit":         {[]impl.Call{renaming("/f", strings.Repeat("/p", 15)+"/x")}, statOf(strings.Repeat("/p", 15) + "/x"), impl.Answer{Stat: impl.Stat{Kind: 1, Links: 1, Size: 70, Blocks: 2}}},
 		"over the deepest":             {[]impl.Call{renaming("/e", deepPath)}, statOf("/e"), impl.Answer{Code: impl.ErrNoEntry}},
 		"up from the deepest":          {[]impl.Call{renaming("/q", "/a/q"), renaming(deepPath, "/x"), renaming("/f", "/x/y")}, statOf("/x/y"), impl.Answer{Stat: impl.Stat{Kind: 1, Links: 1, Size: 70, Blocks: 2}}},
-	} {
+	}
+}
+
+func TestRename(t *testing.T) {
+	t.Parallel()
+	d := placeDisk(128, 40, 4)
+	for name, c := range renameRows() {
 		calls := append(c.calls, c.ask)
 		for i, call := range c.calls {
 			if r := impl.Run(d, calls[:i+1], -1); r.Answers[i].Code != 0 {
@@ -216,35 +223,45 @@ func TestNamesOfOneFile(t *testing.T) {
 	}
 }
 
+// linkRow makes symbolic links one behind the other, the last one to a directory, and asks what they are good for.
+func linkRow(rows int) ([]impl.Call, []expected) {
+	calls := []impl.Call{mkdir("/end"), creating("/end/f")}
+	for i := range rows {
+		calls = append(calls, pointing(fmt.Sprint("/l", i), fmt.Sprint("/l", i+1)))
+	}
+	calls[len(calls)-1].To = "/end"
+	code := int64(0)
+	if rows > 8 {
+		code = impl.ErrLoop
+	}
+	next := code
+	if rows == 1 {
+		next = impl.ErrNoEntry
+	} else if rows == 9 {
+		next = 0
+	}
+	return calls, []expected{
+		{statOf("/l0"), code}, {statOf("/l0/f"), code}, {lstatOf("/l0/f"), code}, {lstatOf("/l0"), 0}, {readlink("/l0"), 0}, {listOf("/l0"), code}, {statOf("/l1"), next},
+		{creating("/l0/g"), code}, {opening("/l0/f"), code}, {writing("/l0/f", 0, "x"), code}, {linking("/end/f", "/l0/i"), code}, {renaming("/l0/f", "/l0/h"), code},
+		{renaming("/l0", "/m"), 0}, {statOf("/m"), code}, {linking("/m", "/k"), 0}, {statOf("/k"), code}, {unlinking("/m"), 0}, {statOf("/k"), code},
+	}
+}
+
+// linkSums has links on the way that add up, whichever names they are: three, four and two.
+func linkSums() ([]impl.Call, []expected) {
+	return []impl.Call{mkdir("/d"), creating("/d/f"), pointing("/a", "/b"), pointing("/b", "/c"), pointing("/c", "/d"), pointing("/d/x", "/a"), pointing("/d/y", "/a/z"), pointing("/d/z", "/d/f")}, []expected{
+		{statOf("/a/f"), 0}, {statOf("/a/x"), 0}, {statOf("/a/x/f"), 0}, {statOf("/a/x/z"), 0}, {statOf("/a/y"), 0}, {statOf("/a/x/y"), impl.ErrLoop}, {statOf("/c/x/y"), impl.ErrLoop}, {lstatOf("/a/x/y"), 0}, {statOf("/d/x/y"), impl.ErrLoop}, {lstatOf("/a/x/x"), 0}, {statOf("/a/x/x"), impl.ErrLoop}, {lstatOf("/d/x/x/f"), 0},
+	}
+}
+
 // Symbolic links one behind the other (promise 22): eight are followed, nine are not, as the last name and in the middle.
 func TestFollowInARow(t *testing.T) {
 	for rows := 1; rows <= 10; rows++ {
-		calls := []impl.Call{mkdir("/end"), creating("/end/f")}
-		for i := range rows {
-			calls = append(calls, pointing(fmt.Sprint("/l", i), fmt.Sprint("/l", i+1)))
-		}
-		calls[len(calls)-1].To = "/end"
-		d := grown(t, newDisk(200, 128, 20), calls...)
-		code := int64(0)
-		if rows > 8 {
-			code = impl.ErrLoop
-		}
-		next := code
-		if rows == 1 {
-			next = impl.ErrNoEntry
-		} else if rows == 9 {
-			next = 0
-		}
-		checkExpected(t, fmt.Sprint(rows, " in a row"), d, nil,
-			expected{statOf("/l0"), code}, expected{statOf("/l0/f"), code}, expected{lstatOf("/l0/f"), code}, expected{lstatOf("/l0"), 0}, expected{readlink("/l0"), 0}, expected{listOf("/l0"), code}, expected{statOf("/l1"), next},
-			expected{creating("/l0/g"), code}, expected{opening("/l0/f"), code}, expected{writing("/l0/f", 0, "x"), code}, expected{linking("/end/f", "/l0/i"), code}, expected{renaming("/l0/f", "/l0/h"), code},
-			expected{renaming("/l0", "/m"), 0}, expected{statOf("/m"), code}, expected{linking("/m", "/k"), 0}, expected{statOf("/k"), code}, expected{unlinking("/m"), 0}, expected{statOf("/k"), code},
-		)
+		calls, list := linkRow(rows)
+		checkExpected(t, fmt.Sprint(rows, " in a row"), grown(t, newDisk(200, 128, 20), calls...), nil, list...)
 	}
-	// Links on the way add up, whichever names they are: three, four and two.
-	d := grown(t, newDisk(200, 128, 20), mkdir("/d"), creating("/d/f"), pointing("/a", "/b"), pointing("/b", "/c"), pointing("/c", "/d"), pointing("/d/x", "/a"), pointing("/d/y", "/a/z"), pointing("/d/z", "/d/f"))
-	checkExpected(t, "they add up", d, nil,
-		expected{statOf("/a/f"), 0}, expected{statOf("/a/x"), 0}, expected{statOf("/a/x/f"), 0}, expected{statOf("/a/x/z"), 0}, expected{statOf("/a/y"), 0}, expected{statOf("/a/x/y"), impl.ErrLoop}, expected{statOf("/c/x/y"), impl.ErrLoop}, expected{lstatOf("/a/x/y"), 0}, expected{statOf("/d/x/y"), impl.ErrLoop}, expected{lstatOf("/a/x/x"), 0}, expected{statOf("/a/x/x"), impl.ErrLoop}, expected{lstatOf("/d/x/x/f"), 0})
+	calls, list := linkSums()
+	checkExpected(t, "they add up", grown(t, newDisk(200, 128, 20), calls...), nil, list...)
 }
 
 // Names below the root are counted from there, wherever the link stood that led there: here 14 names down, to a place 2 names down.

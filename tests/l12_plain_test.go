@@ -35,6 +35,8 @@ type plainSystem struct {
 	credits []int64
 	// seenTree is the tree as it is now, if somebody has looked since it was changed.
 	seenTree plainTree
+	// bare has no disk: its tree is all that there is.
+	bare bool
 }
 
 func (x plainThing) data() string {
@@ -329,16 +331,24 @@ func (s *plainSystem) record(calls int64) {
 	}
 }
 
+// settle commits, with so many calls' changes, and checkpoints if that is asked.
+func (s *plainSystem) settle(kind, calls int64) {
+	if s.bare {
+		return
+	}
+	s.record(calls)
+	if kind == impl.CallCheckpoint {
+		s.checkpoint()
+	}
+}
+
 func (s *plainSystem) answerTo(c impl.Call, ahead int64) impl.Answer {
 	t := s.tree()
 	switch {
 	case c.Kind < 1 || c.Kind > 25:
 		return impl.Answer{Code: impl.ErrCall}
 	case c.Kind == impl.CallSync, c.Kind == impl.CallCheckpoint:
-		s.record(ahead + 1)
-		if c.Kind == impl.CallCheckpoint {
-			s.checkpoint()
-		}
+		s.settle(c.Kind, ahead+1)
 		return impl.Answer{}
 	case c.Kind > impl.CallClose:
 		a, code := s.asked(t, c)
@@ -397,6 +407,9 @@ func (s *plainSystem) asked(t plainTree, c impl.Call) (impl.Answer, int64) {
 	case impl.CallSpace:
 		return impl.Answer{Stat: impl.Stat{Size: s.g.Inodes - int64(len(t)), Blocks: s.p.DataBlocks - s.wants(t)}}, 0
 	case impl.CallLog:
+		if s.bare {
+			return impl.Answer{}, 0
+		}
 		return impl.Answer{State: s.plainHandles.answer(statusCall()).State}, 0
 	}
 	number, code := s.about(t, c)
@@ -656,6 +669,10 @@ func (s *plainSystem) renamed(t plainTree, c impl.Call) (plainTree, int64) {
 
 // move takes the disk from one tree to the next: steps 2 to 4 of 12.2.
 func (s *plainSystem) move(before, after plainTree, credits, ahead int64) {
+	if s.bare {
+		s.seenTree = after
+		return
+	}
 	if s.running()+credits > s.g.Log/4 {
 		s.record(ahead)
 	}
