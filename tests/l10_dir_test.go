@@ -177,6 +177,7 @@ func TestDirThereAndBack(t *testing.T) {
 
 // One name at each two places of a full directory; one inode at all of them is allowed.
 func TestDirNamesThatStandTwice(t *testing.T) {
+	t.Parallel()
 	for i := range 160 {
 		for j := i + 1; j < 160; j += 1 + i%7 {
 			entries := manyEntries(160)
@@ -199,6 +200,7 @@ func TestDirNamesThatStandTwice(t *testing.T) {
 
 // Promise 4: with one byte turned, a directory is taken only as another valid one.
 func TestDirTurned(t *testing.T) {
+	t.Parallel()
 	k := dirKind()
 	draw := rand.New(rand.NewSource(107))
 	alike := []impl.Entry{{Inode: 1, Name: "a"}, {Inode: 1, Name: "b"}, {Inode: 256, Name: "ab"}, {Inode: 9, Name: "abcdefghijklm"}}
@@ -250,6 +252,7 @@ func anyEntries(draw *rand.Rand, n int) []impl.Entry {
 }
 
 func TestDirFind(t *testing.T) {
+	t.Parallel()
 	twice := []impl.Entry{{Inode: 5, Name: "x"}, {Inode: 0, Name: "y"}, {Inode: -7, Name: "x"}, {Name: ""}, {Name: "a/b"}, {Name: ""}}
 	for name, want := range map[string]int64{"x": 0, "y": 1, "": 3, "a/b": 4, "z": -1, "X": -1, "x\x00": -1, "xx": -1} {
 		if got := impl.DirFind(twice, name); got != want {

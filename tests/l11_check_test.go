@@ -41,6 +41,7 @@ func checkBroken(t *testing.T, name string, d impl.Disk, want ...int64) {
 
 // Promise 12: nothing is wrong with a new disk, and it has an empty root alone.
 func TestCheckOfNewDisks(t *testing.T) {
+	t.Parallel()
 	root := value(impl.Observed{Nodes: []impl.Node{{Path: "/", Kind: 2, Inode: 1, Links: 1}}})
 	for _, g := range someGeometries() {
 		d := impl.Mkfs(g)
@@ -65,6 +66,7 @@ func TestCheckOfNewDisks(t *testing.T) {
 
 // Whole disks with trees on them, and all geometries at which the table's last block is full or not.
 func TestCheckOfWholeDisks(t *testing.T) {
+	t.Parallel()
 	checkBroken(t, "the sample", sample().disk)
 	checkBroken(t, "the little one", little().disk)
 	draw := rand.New(rand.NewSource(1101))
@@ -83,6 +85,7 @@ func TestCheckOfWholeDisks(t *testing.T) {
 
 // Promise 12: each byte of what is not a file's own, changed in several ways.
 func TestCheckTellsEachChange(t *testing.T) {
+	t.Parallel()
 	m := little()
 	met := map[int64]int{}
 	for block := range m.g.Blocks {
@@ -115,6 +118,7 @@ func TestCheckOfTheLog(t *testing.T) {
 
 // Several changes at once, on drawn disks: pointers, sizes, names, bits and links, and bytes anywhere in the table.
 func TestCheckOfManyChanges(t *testing.T) {
+	t.Parallel()
 	draw := rand.New(rand.NewSource(1102))
 	met := map[int64]int{}
 	for range 400 {

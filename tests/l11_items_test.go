@@ -10,6 +10,7 @@ import (
 
 // Rule 16 at each byte behind the end of a file, at the edges of its blocks.
 func TestRule16OfFiles(t *testing.T) {
+	t.Parallel()
 	for _, size := range []int{0, 1, 63, 64, 65, 128, 511, 512, 513, 576, 577, 2495, 2496, 2497, 2559, 2560} {
 		items := map[int64]item{4: sizedFile(1, size)}
 		name := fmt.Sprint("a file of ", size)
@@ -167,6 +168,7 @@ func freeing(g impl.Geometry, links int64, blocks int) *made {
 
 // Rule 19 at the limit and one beyond, on maps of one to four blocks.
 func TestRule19(t *testing.T) {
+	t.Parallel()
 	for _, log := range []int64{16, 19, 20, 40, 43, 44, 64, 160, 188, 191, 192, 512} {
 		for _, blocks := range []int64{300, 600, 1100, 1600} {
 			g := impl.Geometry{Blocks: blocks, Log: log, Inodes: 5}

@@ -73,6 +73,7 @@ func TestObserveOrder(t *testing.T) {
 
 // Files of all sizes at the edges, full and with holes.
 func TestObserveOfFiles(t *testing.T) {
+	t.Parallel()
 	for _, size := range []int{0, 1, 63, 64, 65, 511, 512, 513, 576, 577, 2495, 2496, 2497, 2559, 2560} {
 		for _, indexes := range [][]int64{nil, {0}, {1, 3}, {7}, {8}, {9, 39}, {0, 7, 8, 38}, runOf(0, 40)} {
 			indexes = slices.DeleteFunc(slices.Clone(indexes), func(index int64) bool { return index*64 >= int64(size) })

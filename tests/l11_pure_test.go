@@ -96,6 +96,7 @@ func seenCalls(seed int64) string {
 
 // What a call answers does not hang on what was called before it, nor beside it.
 func TestPureSeenCalls(t *testing.T) {
+	t.Parallel()
 	first := seenCalls(3)
 	for seed := range int64(20) {
 		seenCalls(seed)

@@ -276,6 +276,7 @@ func TestRepairOfEachRule(t *testing.T) {
 
 // Drawn disks on which only maps, numbers of names, and whole trees are out of their places.
 func TestRepairOfDrawnDisks(t *testing.T) {
+	t.Parallel()
 	draw := rand.New(rand.NewSource(1105))
 	mended, freed := 0, 0
 	for range 300 {

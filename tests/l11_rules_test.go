@@ -131,6 +131,7 @@ func TestRule5(t *testing.T) {
 }
 
 func TestRule6(t *testing.T) {
+	t.Parallel()
 	for _, block := range []int64{1, 2, 66, 69, 84, 600, 601, 1024, 2047} {
 		for k := range 8 {
 			checkBroken(t, "a pointer elsewhere", harmed(func(m *made) { m.change(5, func(i *impl.Inode) { i.Direct[k] = block }) }), 6, 15)
@@ -169,6 +170,7 @@ func TestRule7Elsewhere(t *testing.T) {
 }
 
 func TestRule7OfFiles(t *testing.T) {
+	t.Parallel()
 	for _, size := range []int{513, 575, 576, 577, 640, 1000, 2496, 2497, 2560} {
 		last := int64((size - 1) / 64)
 		for j := range int64(32) {
@@ -224,6 +226,7 @@ func TestRule7OfDirectories(t *testing.T) {
 
 // A pointer block with a number that is too large has no pointers at all.
 func TestRule7OfNumbers(t *testing.T) {
+	t.Parallel()
 	for j := range int64(32) {
 		for _, b := range []int64{2048, 2049, 4096, 32768, 65535} {
 			by := func(number int64) func(m *made) {
@@ -440,6 +443,7 @@ func TestRule13OnEachWay(t *testing.T) {
 }
 
 func TestRules14And15(t *testing.T) {
+	t.Parallel()
 	m := sample()
 	for bit := range int64(512) {
 		d := harmed(func(m *made) { m.turnBit(m.p.InodeMap, bit) })

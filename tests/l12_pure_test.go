@@ -103,6 +103,7 @@ func systemCalls(seed int64) string {
 
 // What a call answers does not hang on what was called before it, nor beside it.
 func TestPureSystemCalls(t *testing.T) {
+	t.Parallel()
 	first := systemCalls(3)
 	for seed := range int64(12) {
 		systemCalls(seed)

@@ -41,6 +41,7 @@ func placeTrees() map[string]impl.Geometry {
 }
 
 func TestPlacesOfPlainTrees(t *testing.T) {
+	t.Parallel()
 	want := impl.Tree(placeDisk(128, 40, 4), nil).Nodes
 	for name, g := range placeTrees() {
 		space := impl.Stat{Size: 4, Blocks: 40}
@@ -166,6 +167,7 @@ func TestPlainCallsThatLook(t *testing.T) {
 
 // Fields that a call does not use play no part.
 func TestPlainCallsUseTheirFieldsAlone(t *testing.T) {
+	t.Parallel()
 	g := placeGeometry(128, 40, 4)
 	for kind, pair := range fieldPairs() {
 		a := impl.PlainRun(g, append(placeCalls(), opening("/f"), pair[0], syncing(), listOf("/a"), spaceLeft()))

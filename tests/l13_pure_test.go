@@ -85,6 +85,7 @@ func plainRuns(seed int64) string {
 
 // What a call answers does not hang on what was called before it, nor beside it.
 func TestPurePlainRuns(t *testing.T) {
+	t.Parallel()
 	first := plainRuns(3)
 	for seed := range int64(6) {
 		plainRuns(seed)

@@ -361,6 +361,7 @@ func TestLinesLength(t *testing.T) {
 
 // A byte of any sort at any place of each row.
 func TestLinesEveryByte(t *testing.T) {
+	t.Parallel()
 	taken := 0
 	for _, row := range lineRows() {
 		for at := range len(row.line) {
@@ -381,6 +382,7 @@ func TestLinesEveryByte(t *testing.T) {
 
 // Promise 19 of drawn lines: fields of all sorts behind each command.
 func TestLinesDrawn(t *testing.T) {
+	t.Parallel()
 	draw := rand.New(rand.NewSource(1402))
 	numbers, none := numberRows()
 	var texts []string

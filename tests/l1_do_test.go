@@ -167,6 +167,7 @@ func TestDiskDoFlushFields(t *testing.T) {
 }
 
 func TestDiskDoManyOperations(t *testing.T) {
+	t.Parallel()
 	many := make([]impl.Op, 4001)
 	for i := range many {
 		many[i] = writeOp(int64(i%2), byte(i))

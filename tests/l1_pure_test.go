@@ -59,6 +59,7 @@ func TestPureLooks(t *testing.T) {
 }
 
 func TestPureChanges(t *testing.T) {
+	t.Parallel()
 	for name, disk := range pureDisks() {
 		checkPure(t, pureCase{"DiskFlush, " + name, impl.DiskFlush, func() []any { return []any{disk()} }})
 		for _, at := range []int64{-1, 0, 2, 3} {
@@ -93,6 +94,7 @@ func TestPureWriteOfItsOwnMemory(t *testing.T) {
 }
 
 func TestPureDo(t *testing.T) {
+	t.Parallel()
 	shared := filled(77)
 	lists := map[string]func() []impl.Op{
 		"none":             func() []impl.Op { return nil },

@@ -168,6 +168,7 @@ func turned(data []byte, place int, pattern uint32) []byte {
 
 // Promise 3: changed bits within 32 in a row give another sum. Here they are drawn, at every place.
 func TestCrcTellsDrawnChanges(t *testing.T) {
+	t.Parallel()
 	draw := rand.New(rand.NewSource(5))
 	for _, n := range []int{1, 2, 3, 4, 5, 8, 64, 200} {
 		data := drawn(n, 9)

@@ -39,6 +39,7 @@ func checkEscape(t *testing.T, b []byte) {
 
 // Promise 4, of data that begin with the magic, with a part of it, with zeros, and with anything.
 func TestEscapeThereAndBack(t *testing.T) {
+	t.Parallel()
 	for seed := range int64(60) {
 		checkEscape(t, beginning(seed, magic...))
 		checkEscape(t, beginning(seed, 0, 0, 0, 0))
@@ -123,6 +124,7 @@ func TestEscapeLengths(t *testing.T) {
 
 // Unescape takes exactly what Escape could have told.
 func TestUnescapeRefuses(t *testing.T) {
+	t.Parallel()
 	for seed := range int64(30) {
 		for at := range 4 {
 			for x := 1; x < 256; x++ {

@@ -39,6 +39,7 @@ func turnedThings(k journalKind, draw *rand.Rand) []any {
 // Promise 4: with one byte turned, to each other value, at each of the 64 places, a block is decoded to nothing
 // or to what encodes to just these bytes.
 func TestJournalOneByteTurned(t *testing.T) {
+	t.Parallel()
 	draw := rand.New(rand.NewSource(41))
 	for _, k := range journalKinds() {
 		taken := 0
@@ -66,6 +67,7 @@ func TestJournalOneByteTurned(t *testing.T) {
 
 // With a sum that fits, a superblock's other bytes count one by one.
 func TestSuperTurnedWithItsSum(t *testing.T) {
+	t.Parallel()
 	draw := rand.New(rand.NewSource(42))
 	k := superKind()
 	taken := 0
@@ -89,6 +91,7 @@ func TestSuperTurnedWithItsSum(t *testing.T) {
 
 // Two or more bytes at once, and blocks that are drawn but for their header.
 func TestJournalDrawnBytes(t *testing.T) {
+	t.Parallel()
 	draw := rand.New(rand.NewSource(43))
 	for _, k := range journalKinds() {
 		taken := 0

@@ -26,6 +26,7 @@ func wholeTxns() []impl.Txn {
 
 // Promise 5: each bit of the smaller ones, and some bits of each block of the larger ones, turned alone.
 func TestTxnOneBitTurned(t *testing.T) {
+	t.Parallel()
 	draw := rand.New(rand.NewSource(72))
 	for _, x := range wholeTxns() {
 		b := impl.TxnBlocks(x)
@@ -47,6 +48,7 @@ func TestTxnOneBitTurned(t *testing.T) {
 
 // Promise 5: bits turned that all lie within 32 in a row, from many places of each block on, over its end too.
 func TestTxnBitsInARowTurned(t *testing.T) {
+	t.Parallel()
 	draw := rand.New(rand.NewSource(73))
 	for _, x := range wholeTxns() {
 		b := impl.TxnBlocks(x)
@@ -231,6 +233,7 @@ func TestTxnWithAFittingSum(t *testing.T) {
 
 // Pieces that are cut anywhere, with a commit block that fits: only those of 26 and 17 are a transaction's.
 func TestTxnDrawnPieces(t *testing.T) {
+	t.Parallel()
 	draw := rand.New(rand.NewSource(75))
 	good := 0
 	for range 3000 {

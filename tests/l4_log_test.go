@@ -202,6 +202,7 @@ func TestAppendOfTheDocument(t *testing.T) {
 
 // Every valid log of the least size, with transactions of each length that is around its room.
 func TestAppendToSmallLogs(t *testing.T) {
+	t.Parallel()
 	// Their lengths are 2 to 18.
 	txns := []impl.Txn{txnOf(9, nil, []int64{500}), txnOf(9, nil, runOf(500, 27)), txnOf(9, nil, runOf(500, 60))}
 	for n := 1; n <= 15; n++ {
@@ -233,6 +234,7 @@ func TestAppendToSmallLogs(t *testing.T) {
 
 // A transaction that has just room, and one with a block of room less.
 func TestAppendJustRoom(t *testing.T) {
+	t.Parallel()
 	for _, size := range []int64{16, 17, 100, 137, 138, 512} {
 		for _, n := range []int{1, 2, 13, 14, 17, 18, 60, 127, 128} {
 			for _, x := range []impl.Txn{txnOf(9, runOf(100, n), nil), txnOf(9, runOf(100, n-1), []int64{7}), txnOf(9, nil, runOf(9, n))} {

@@ -56,6 +56,7 @@ func pureLogs() []impl.Log {
 }
 
 func TestPureTxns(t *testing.T) {
+	t.Parallel()
 	for name, txn := range pureTxns() {
 		checkPure(t, pureCase{"ValidTxn, " + name, impl.ValidTxn, func() []any { return []any{txn()} }})
 		checkPure(t, pureCase{"TxnLength, " + name, impl.TxnLength, func() []any { return []any{txn()} }})

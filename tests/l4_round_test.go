@@ -145,6 +145,7 @@ func (c *course) found(t *testing.T) []impl.Txn {
 // Promise 6, as far as this layer goes: a log of the least size, taken round its end by transactions of all
 // lengths that it has room for, the tail going on only when there is no room.
 func TestLogRoundAndRound(t *testing.T) {
+	t.Parallel()
 	for head := int64(1); head <= 16; head++ {
 		c := newCourse(16, head, 100*head)
 		c.check(t)
@@ -171,6 +172,7 @@ func TestLogRoundAndRound(t *testing.T) {
 
 // The same transaction again and again, of each length, until the log is full to its last position or has no room.
 func TestLogOfEqualLengths(t *testing.T) {
+	t.Parallel()
 	full := 0
 	for n := 1; n <= 14; n++ {
 		for head := int64(1); head <= 16; head += 5 {
@@ -197,6 +199,7 @@ func TestLogOfEqualLengths(t *testing.T) {
 
 // Tails at any time, also where nothing is in use; logs of any size; numbers up to the last one.
 func TestLogDrawnCourse(t *testing.T) {
+	t.Parallel()
 	draw := rand.New(rand.NewSource(91))
 	for _, size := range []int64{16, 17, 23, 40, 137, 200, 512} {
 		many := 60

@@ -239,6 +239,7 @@ func TestTxnInPiecesByHand(t *testing.T) {
 
 // Counts of homes and revokes around 17 and 26, and around 128 in all.
 func TestTxnCounts(t *testing.T) {
+	t.Parallel()
 	if impl.MaxTxn != 128 {
 		t.Error("MaxTxn is", impl.MaxTxn)
 	}
@@ -306,6 +307,7 @@ func TestTxnBlockNumbers(t *testing.T) {
 
 // Two alike or two that fall, at each place of a list that has several pieces; and one in both lists.
 func TestTxnOrder(t *testing.T) {
+	t.Parallel()
 	for _, n := range []int{2, 17, 18, 26, 27, 35, 53, 60} {
 		for i := range n - 1 {
 			alike, falling := runOf(10, n), runOf(10, n)

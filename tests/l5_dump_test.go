@@ -134,6 +134,7 @@ func TestDumpOfLongTransactions(t *testing.T) {
 
 // Promise 24 along courses of logs: whole, torn in the last one, bent in the middle, and recovered.
 func TestDumpOfCourses(t *testing.T) {
+	t.Parallel()
 	draw := rand.New(rand.NewSource(121))
 	for _, size := range []int64{16, 17, 40, 100} {
 		c := newCourse(size, 1+draw.Int63n(size), 1+draw.Int63n(50))

@@ -105,6 +105,7 @@ func oddTxn(draw *rand.Rand, blocks int64, most int) impl.Txn {
 
 // Promise 8: Survivors is the fold, and it is what Revoked tells.
 func TestSurvivorsAreTheFold(t *testing.T) {
+	t.Parallel()
 	draw := rand.New(rand.NewSource(111))
 	left, some := 0, 0
 	for range 4000 {

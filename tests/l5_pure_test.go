@@ -39,6 +39,7 @@ func longTxns() []impl.Txn {
 }
 
 func TestPureRecovery(t *testing.T) {
+	t.Parallel()
 	disks := loggedDisks()
 	for name, disk := range pureDisks() {
 		disks["no log: "+name] = disk
@@ -74,6 +75,7 @@ func pureLists() map[string]func() []impl.Txn {
 }
 
 func TestPureFold(t *testing.T) {
+	t.Parallel()
 	for name, txns := range pureLists() {
 		checkPure(t, pureCase{"Survivors, " + name, impl.Survivors, func() []any { return []any{txns()} }})
 		for _, i := range []int64{math.MinInt64, -1, 0, 1, 2, 3, math.MaxInt64} {

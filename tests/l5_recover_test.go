@@ -35,6 +35,7 @@ func checkHomes(t *testing.T, name string, d impl.Disk, txns []impl.Txn) impl.Di
 
 // Promise 8 along courses of logs: whole, torn in the last transaction, bent in a middle one.
 func TestRecoverIsTheFold(t *testing.T) {
+	t.Parallel()
 	draw := rand.New(rand.NewSource(131))
 	revoked, kept := 0, 0
 	for _, s := range []struct {
@@ -238,6 +239,7 @@ func TestRecoverStoppedEverywhere(t *testing.T) {
 
 // Promise 9 of drawn logs, whole, torn and bent: up to four stops in a row at drawn operations.
 func TestRecoverStoppedAgainAndAgain(t *testing.T) {
+	t.Parallel()
 	draw := rand.New(rand.NewSource(142))
 	most := 0
 	for _, s := range []struct {
@@ -348,6 +350,7 @@ func TestRecoverOfMoreThanSurvivorsTakes(t *testing.T) {
 
 // The most that a log can hold: as many homes as there are positions for.
 func TestRecoverOfManyHomes(t *testing.T) {
+	t.Parallel()
 	var txns []impl.Txn
 	for i, n := range []int{128, 128, 128, 94} {
 		txns = append(txns, txnOf(int64(7+i), runOf(int64(600+200*i), n), nil))

@@ -45,6 +45,7 @@ func (c *course) drawOn(t *testing.T, draw *rand.Rand, most int) impl.Txn {
 
 // Promise 6: logs of several sizes, from several heads on, taken round their ends several times.
 func TestScanFindsWhatWasTaken(t *testing.T) {
+	t.Parallel()
 	draw := rand.New(rand.NewSource(101))
 	for _, s := range []struct {
 		size             int64
@@ -67,6 +68,7 @@ func TestScanFindsWhatWasTaken(t *testing.T) {
 
 // Promise 6: transactions of one length, so that old ones stand just where the scan goes on; and a log that is full.
 func TestScanEndsAtOldOnes(t *testing.T) {
+	t.Parallel()
 	for homes := 1; homes <= 14; homes++ {
 		for head := int64(1); head <= 16; head += 3 {
 			c := newCourse(16, head, 5)
@@ -159,6 +161,7 @@ func (c *course) checkTorn(t *testing.T, d impl.Disk, x impl.Txn, n *torn, incom
 
 // Promise 7: stopped at each operation, with many choices of kept writes, where old blocks stand in the log as well.
 func TestScanOfTornTransactions(t *testing.T) {
+	t.Parallel()
 	draw := rand.New(rand.NewSource(102))
 	for _, s := range []struct {
 		size             int64
@@ -408,6 +411,7 @@ func TestScanOfBentLogs(t *testing.T) {
 
 // Logs full of blocks that stand anywhere: whole ones, pieces of others, old numbers.
 func TestScanOfDrawnLogs(t *testing.T) {
+	t.Parallel()
 	draw := rand.New(rand.NewSource(105))
 	found := map[int]int{}
 	for range 1500 {

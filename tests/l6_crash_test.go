@@ -129,6 +129,7 @@ func fewKeeps(draw *rand.Rand, n int) [][]int64 {
 
 // Promise 10: runs of many calls, with and without frees, on logs of the least size and of others.
 func TestCrashAtEachOperation(t *testing.T) {
+	t.Parallel()
 	draw := rand.New(rand.NewSource(171))
 	for _, s := range []struct {
 		size, blocks int64
@@ -239,6 +240,7 @@ func TestCrashRunsInARow(t *testing.T) {
 
 // Promise 10, told by TxnGet itself: behind each commit all home blocks are got, and these are what a crash leads to.
 func TestCrashLeavesWhatGetsTold(t *testing.T) {
+	t.Parallel()
 	draw := rand.New(rand.NewSource(174))
 	commits := 0
 	for range 8 {

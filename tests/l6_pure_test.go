@@ -18,6 +18,7 @@ func sharingHomes() []impl.Home {
 }
 
 func TestPureLimitAndCheckpoint(t *testing.T) {
+	t.Parallel()
 	for _, size := range []int64{math.MinInt64, -1, 0, 15, 16, 19, 20, 512, 513, math.MaxInt64} {
 		checkPure(t, pureCase{"TxnLimit", impl.TxnLimit, func() []any { return []any{size} }})
 	}
@@ -66,6 +67,7 @@ func pureRuns() map[string]func() []impl.TxnCall {
 }
 
 func TestPureRunTxn(t *testing.T) {
+	t.Parallel()
 	disks := loggedDisks()
 	disks["an empty log"] = func() impl.Disk { return emptyLog(16, 40, 7) }
 	disks["an empty log, no homes"] = func() impl.Disk { return emptyLog(16, 18, 7) }

@@ -28,6 +28,7 @@ func checkStates(t *testing.T, size int64, calls []impl.TxnCall, r impl.TxnRun) 
 
 // Promise 11: whatever is called, behind each call.
 func TestRoomBehindEachCall(t *testing.T) {
+	t.Parallel()
 	draw := rand.New(rand.NewSource(181))
 	for _, size := range []int64{16, 17, 18, 19, 20, 31, 64, 200, 512} {
 		for round := range 4 {
@@ -46,6 +47,7 @@ func TestRoomBehindEachCall(t *testing.T) {
 
 // Promise 11: of calls that are all in order none has a code, however full the log is.
 func TestRoomIsAlwaysMade(t *testing.T) {
+	t.Parallel()
 	draw := rand.New(rand.NewSource(182))
 	for _, size := range []int64{16, 17, 19, 20, 23, 40, 100, 512} {
 		most := size / 4
@@ -110,6 +112,7 @@ func filling(size, positions int64) []impl.TxnCall {
 
 // Promise 11: a commit of all that may be running, when the log is full but for so many positions.
 func TestRoomInAFullLog(t *testing.T) {
+	t.Parallel()
 	for _, size := range []int64{16, 17, 19, 20, 21, 40, 137, 200, 511, 512} {
 		most := size / 4
 		d := emptyLog(size, int(2+size+2*most), 9)
@@ -194,6 +197,7 @@ func withoutAborted(calls []impl.TxnCall, r impl.TxnRun) []impl.TxnCall {
 
 // An aborted handle leaves nothing: without its puts and frees all operations are the same, and so is the disk.
 func TestAbortedLeavesNothing(t *testing.T) {
+	t.Parallel()
 	draw := rand.New(rand.NewSource(183))
 	aborted := 0
 	for range 60 {

@@ -50,6 +50,7 @@ func TestRunTxnCodes(t *testing.T) {
 
 // As many calls as there may be, of all kinds; one more has only a code.
 func TestRunTxnOfManyCalls(t *testing.T) {
+	t.Parallel()
 	for _, size := range []int64{16, 60} {
 		w := callDraw{draw: rand.New(rand.NewSource(size)), size: size, blocks: size + 12, frees: true}
 		d := emptyLog(size, int(w.blocks), 7)
@@ -140,6 +141,7 @@ func TestRunTxnOfLimitZero(t *testing.T) {
 
 // Drawn calls, odd ones among them, stopped at each operation, on logs of several sizes that hold something or not.
 func TestRunTxnDrawn(t *testing.T) {
+	t.Parallel()
 	draw := rand.New(rand.NewSource(161))
 	pressed, opened := 0, 0
 	for _, s := range []struct {
@@ -163,6 +165,7 @@ func TestRunTxnDrawn(t *testing.T) {
 
 // What is got of each home block, and the status, behind every call.
 func TestRunTxnGetsAfterEachCall(t *testing.T) {
+	t.Parallel()
 	draw := rand.New(rand.NewSource(162))
 	for range 30 {
 		w := callDraw{draw: draw, size: 16, blocks: 26, frees: true}

@@ -41,6 +41,7 @@ func checkMkfs(t *testing.T, g impl.Geometry) {
 
 // Promise 12, as far as this layer goes.
 func TestMkfsOfGeometries(t *testing.T) {
+	t.Parallel()
 	for _, g := range someGeometries() {
 		checkMkfs(t, g)
 	}
@@ -128,6 +129,7 @@ func newSystem(g impl.Geometry) *course {
 
 // Promises 6 and 7 on disks from Mkfs: what was taken is found, and one that is torn is told by its bytes.
 func TestMkfsTakesTransactions(t *testing.T) {
+	t.Parallel()
 	draw := rand.New(rand.NewSource(721))
 	for _, s := range []struct {
 		g          impl.Geometry
@@ -159,6 +161,7 @@ func TestMkfsTakesTransactions(t *testing.T) {
 
 // Promise 10 on disks from Mkfs: handles that change any block behind the log, stopped at each operation.
 func TestMkfsUnderHandles(t *testing.T) {
+	t.Parallel()
 	draw := rand.New(rand.NewSource(722))
 	for _, s := range []struct {
 		g     impl.Geometry

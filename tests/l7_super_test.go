@@ -56,6 +56,7 @@ func turnedGeometries() []impl.Geometry {
 // Promise 4: with one byte turned to each other value the sum does not fit any more; set right again, it is taken only
 // as the superblock of another valid geometry.
 func TestSystemSuperTurned(t *testing.T) {
+	t.Parallel()
 	k := geometryKind()
 	taken := map[int]int{}
 	for _, g := range turnedGeometries() {

@@ -172,6 +172,7 @@ func TestBitsOfOneRun(t *testing.T) {
 
 // No bytes, one, 2048 and 2049; from and to at all bounds, also the wrong way round; every bit at a bound.
 func TestBitsEdges(t *testing.T) {
+	t.Parallel()
 	for _, b := range edgeBytes() {
 		for _, from := range bitEdges(len(b)) {
 			checkBit(t, b, from)

@@ -134,6 +134,7 @@ func TestValidInodeByHand(t *testing.T) {
 
 // Each field of inodes of each kind at every bound, one beyond, and far from all of them.
 func TestInodeFields(t *testing.T) {
+	t.Parallel()
 	valid := 0
 	for _, was := range someInodes() {
 		for _, v := range farNumbers() {
@@ -246,6 +247,7 @@ func checkTurned(t *testing.T, k journalKind, thing any) map[int]int {
 
 // Promise 4: with one byte turned a record is taken only as that of another valid inode.
 func TestInodeTurned(t *testing.T) {
+	t.Parallel()
 	all := map[int]int{}
 	for _, i := range turnedInodes() {
 		for at, n := range checkTurned(t, inodeKind(), i) {
@@ -377,6 +379,7 @@ func TestPointersThereAndBack(t *testing.T) {
 
 // Promise 4: with one byte turned a pointer block tells other numbers, or none.
 func TestPointersTurned(t *testing.T) {
+	t.Parallel()
 	for _, p := range turnedPointers() {
 		taken := checkTurned(t, pointersKind(), p)
 		for at := range 64 {
